@@ -1,0 +1,1 @@
+"""Canpath: water carried from a tap along a path."""

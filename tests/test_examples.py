@@ -1,0 +1,63 @@
+"""The examples of the document, as they are printed there."""
+
+import unittest
+
+GARDENS = """
+>>> from canpath.gardens import garden_error, is_garden
+>>> S = (0, 2, ((1, 1), (3, 2)))
+>>> [is_garden(S), garden_error((0, 0, ())), garden_error((0, 2, ((1, 1), (1, 2)))), garden_error((0, 2, None))]
+[True, (None, 'can'), (1, 'bed'), (None, 'beds')]
+"""
+
+STRETCHES = """
+>>> from canpath.gardens import stretches_of
+>>> G = (0, 3, ((2, 4), (5, 1), (6, 3)))
+>>> [stretches_of(G), stretches_of((4, 3, ((2, 4), (5, 1)))), stretches_of((4, 3, ((4, 9),)))]
+[((0, 2, 8), (2, 5, 4), (5, 6, 3)), ((2, 4, 4), (4, 5, 1)), ()]
+"""
+
+TRIPS = """
+>>> from canpath.trips import is_trip, way_of_trip
+>>> S = (0, 2, ((1, 1), (3, 2)))
+>>> [is_trip(S, ((1, 1), (3, 1))), is_trip(S, ((3, 3),)), is_trip(S, ((2, 1),)), way_of_trip(S, ((1, 1), (3, 1))), way_of_trip((2, 2, ((1, 1), (3, 2))), ((1, 1), (3, 1)))]
+[True, False, False, 6, 4]
+"""
+
+PLANS = """
+>>> from canpath.trips import is_plan, trips_of, way_of
+>>> S = (0, 2, ((1, 1), (3, 2)))
+>>> P = ((((1, 1),), 1), (((3, 2),), 1))
+>>> [is_plan(S, P), is_plan(S, P[::-1]), is_plan(S, P[:1]), way_of(S, P), trips_of(S, P)]
+[True, False, False, 8, 2]
+"""
+
+
+def run_session(text):
+    """Return the repr of the last expression of a session, and what is printed for it."""
+    *rows, printed = text.strip().split("\n")
+    names = {}
+    for row in rows[:-1]:
+        exec(row.removeprefix(">>> "), names)
+    return repr(eval(rows[-1].removeprefix(">>> "), names)), printed
+
+
+class Examples(unittest.TestCase):
+    def check(self, text):
+        told, printed = run_session(text)
+        self.assertEqual(told, printed)
+
+    def test_promise_4_gardens(self):
+        self.check(GARDENS)
+
+    def test_promise_5_stretches(self):
+        self.check(STRETCHES)
+
+    def test_promise_6_trips(self):
+        self.check(TRIPS)
+
+    def test_promise_7_plans(self):
+        self.check(PLANS)
+
+
+if __name__ == "__main__":
+    unittest.main()
