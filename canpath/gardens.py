@@ -39,6 +39,11 @@ def is_bed(value):
     return is_tuple_of(value, 2) and is_place(value[0]) and is_number_within(value[1], 1, MAX_LITRES)
 
 
+def litres_wanted(garden):
+    """Return the litres that all beds want together."""
+    return sum([litres for place, litres in garden[2]])
+
+
 def stretches_of(garden):
     """Return (low, high, litres beyond) for each stretch, from left to right."""
     marks = marks_of(garden)

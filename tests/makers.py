@@ -102,6 +102,84 @@ def spread_garden(many, tap, can=5):
     return (tap, can, tuple((place, index + 1) for index, place in enumerate(places)))
 
 
+LITRES = ("few", "around the can", "any")
+SIDES = ("left", "right", "both", "at the tap")
+
+
+def some_can_and_litres(dice, many, litres):
+    """The litres that a can holds, and the litres of so many beds."""
+    if litres == "few":
+        return dice.pick((1, 2, 3, 5, 8, 20)), [1 + dice.throw(9) for _ in range(many)]
+    if litres == "around the can":
+        can = dice.pick((1, 2, 3, 7, 50, 1000, MAX_CAN))
+        return can, [max(1, can * (1 + dice.throw(3)) + dice.throw(3) - 1) for _ in range(many)]
+    can = dice.pick((1, 2, 3, 1000, MAX_CAN, 1 + dice.throw(MAX_CAN)))
+    wanted = [dice.pick((1, 1 + dice.throw(1000), MAX_LITRES - dice.throw(9), 1 + dice.throw(MAX_LITRES)))
+              for _ in range(many)]
+    return can, wanted
+
+
+def sided_garden(dice, many, litres, side):
+    """A garden with so many beds that lie, seen from the tap, on this side."""
+    can, wanted = some_can_and_litres(dice, many, litres)
+    places = [dice.throw(50) - 50]
+    while len(places) < many:
+        places.append(places[-1] + 2 + dice.throw(dice.pick((1, 9, 1000))))
+    tap = dice.pick(places)
+    if side == "left":
+        tap = places[-1] + 1 + dice.throw(5)
+    if side == "right":
+        tap = places[0] - 1 - dice.throw(5)
+    if side == "both":
+        tap = dice.pick(places[:-1] or places) + 1
+    return (tap, can, tuple(zip(places, wanted)))
+
+
+def sided_gardens(seed, each=3, litres=LITRES):
+    """Gardens of none to twelve beds, on all sides and with all these litres."""
+    dice = Dice(seed)
+    return [sided_garden(dice, many, amount, side)
+            for many in range(MAX_BEDS + 1) for amount in litres for side in SIDES for _ in range(each)]
+
+
+def gardens_at_the_bounds():
+    """Gardens whose places, can and litres are the least and the greatest ones."""
+    found = []
+    for can in (1, 2, MAX_CAN - 1, MAX_CAN):
+        for tap in (-MAX_PLACE, -1, 0, MAX_PLACE):
+            found.append((tap, can, ()))
+            for many in (1, 2, MAX_BEDS):
+                places = [place for place, _ in spread_garden(many, tap)[2]]
+                for litres in (1, MAX_CAN + 1, MAX_LITRES - 1, MAX_LITRES):
+                    found.append((tap, can, tuple((place, litres) for place in places)))
+            for first in (-MAX_PLACE, 0, MAX_PLACE - MAX_BEDS + 1):
+                found.append((tap, can, tuple((first + index, MAX_LITRES) for index in range(MAX_BEDS))))
+    return found
+
+
+def mirrored(garden):
+    tap, can, beds = garden
+    return (-tap, can, tuple((-place, litres) for place, litres in reversed(beds)))
+
+
+def together(one, other):
+    """The garden with the beds of both, which have the same tap and can."""
+    wanted = dict(one[2])
+    for place, litres in other[2]:
+        wanted[place] = wanted.get(place, 0) + litres
+    return (one[0], one[1], tuple(sorted(wanted.items())))
+
+
+def collected(trips):
+    """The plan with these trips, each as often as it is in the list."""
+    return tuple((trip, trips.count(trip)) for trip in sorted(set(trips)))
+
+
+def each_made(plan):
+    """The trips of a plan, each as often as it is made."""
+    return [trip for trip, times in plan for _ in range(times)]
+
+
 def changed(value, others):
     """All values that come from the value by one change at one part, at any depth."""
     yield from others

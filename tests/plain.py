@@ -80,3 +80,103 @@ def way_of_trip(garden, trip):
         low = min(low, place)
         high = max(high, place)
     return (high - low) * 2
+
+
+def way_of(garden, plan):
+    return sum(times * way_of_trip(garden, trip) for trip, times in plan)
+
+
+def trips_of(plan):
+    return sum(times for _, times in plan)
+
+
+def farthest_first(garden, side):
+    """(distance, litres) of the beds on the left side (-1) or the right side (1) of the tap."""
+    tap, _, beds = garden
+    return sorted([((place - tap) * side, litres) for place, litres in beds if (place - tap) * side > 0], reverse=True)
+
+
+def way_litre_by_litre(garden):
+    """Carry each litre from the farthest one on, and walk for each can that is begun."""
+    way = 0
+    for side in (-1, 1):
+        room = 0
+        for distance, litres in farthest_first(garden, side):
+            for _ in range(litres):
+                if room == 0:
+                    way += 2 * distance
+                    room = garden[1]
+                room -= 1
+    return way
+
+
+def trips_litre_by_litre(garden):
+    trips = room = 0
+    for _, litres in garden[2]:
+        for _ in range(litres):
+            if room == 0:
+                trips += 1
+                room = garden[1]
+            room -= 1
+    return trips
+
+
+def least_way(garden):
+    """The same count as litre by litre, bed by bed."""
+    way = 0
+    for side in (-1, 1):
+        room = 0
+        for distance, litres in farthest_first(garden, side):
+            begun = -(min(0, room - litres) // garden[1])
+            way += 2 * distance * begun
+            room += begun * garden[1] - litres
+    return way
+
+
+def fewest_trips(garden):
+    whole, rest = divmod(sum(litres for _, litres in garden[2]), garden[1])
+    return whole + (rest > 0)
+
+
+def are_counts(garden, number, value):
+    stretches = stretches_of(garden)
+    if type(value) is not tuple or len(value) != len(stretches) or not numbers_only(value):
+        return False
+    way = 0
+    for count, (low, high, litres) in zip(value, stretches):
+        # The cans before the last one do not hold all of the litres.
+        if count < 0 or (count > 0 and (count - 1) * garden[1] >= litres):
+            return False
+        way += (high - low) * 2 * count
+    return way > number
+
+
+def certificate_holds(garden, number, value):
+    if not is_pair(value) or type(value[0]) is not str:
+        return False
+    if value[0] == "plan":
+        return is_plan(garden, value[1]) and way_of(garden, value[1]) <= number
+    return value[0] == "counts" and are_counts(garden, number, value[1])
+
+
+def groupings(items):
+    """All ways to put the items of a list into groups."""
+    if not items:
+        return [[]]
+    found = []
+    for groups in groupings(items[1:]):
+        found.append([[items[0]]] + groups)
+        for index, group in enumerate(groups):
+            found.append(groups[:index] + [[items[0]] + group] + groups[index + 1:])
+    return found
+
+
+def all_plans(garden):
+    """All plans, ascending: put the litres, one by one, into cans in all ways."""
+    places = [place for place, litres in garden[2] for _ in range(litres)]
+    found = set()
+    for groups in groupings(places):
+        if all(len(group) <= garden[1] for group in groups):
+            trips = [tuple((place, group.count(place)) for place in sorted(set(group))) for group in groups]
+            found.add(tuple((trip, trips.count(trip)) for trip in sorted(set(trips))))
+    return sorted(found)

@@ -31,6 +31,42 @@ PLANS = """
 [True, False, False, 8, 2]
 """
 
+LEAST_WAYS = """
+>>> from canpath.ways import best_plan, fewest_trips, least_way
+>>> S = (0, 2, ((1, 1), (3, 2)))
+>>> G = (0, 3, ((2, 4), (5, 1), (6, 3)))
+>>> [least_way(S), least_way(G), fewest_trips(G), best_plan(S)]
+[8, 26, 3, ((((1, 1),), 1), (((3, 2),), 1))]
+"""
+
+CERTIFICATES = """
+>>> from canpath.ways import certificate
+>>> S = (0, 2, ((1, 1), (3, 2)))
+>>> [certificate(S, 8), certificate(S, 7)]
+[('plan', ((((1, 1),), 1), (((3, 2),), 1))), ('counts', (2, 1))]
+"""
+
+CHECKED_CERTIFICATES = """
+>>> from canpath.ways import certificate_holds
+>>> S = (0, 2, ((1, 1), (3, 2)))
+>>> P = ((((1, 1),), 1), (((3, 2),), 1))
+>>> [certificate_holds(S, 7, ('counts', (2, 1))), certificate_holds(S, 8, ('counts', (2, 1))), certificate_holds(S, 3, ('counts', (2, 0))), certificate_holds(S, 9, ('plan', P))]
+[True, False, True, True]
+"""
+
+COUNTS_OF_PLANS = """
+>>> from canpath.counting import count_best, count_plans
+>>> S = (0, 2, ((1, 1), (3, 2)))
+>>> [count_plans(S), count_best(S)]
+[3, 1]
+"""
+
+EACH_PLAN = """
+>>> from canpath.counting import each_plan
+>>> list(each_plan((0, 2, ((3, 2),))))
+[((((3, 1),), 2),), ((((3, 2),), 1),)]
+"""
+
 
 def run_session(text):
     """Return the repr of the last expression of a session, and what is printed for it."""
@@ -57,6 +93,21 @@ class Examples(unittest.TestCase):
 
     def test_promise_7_plans(self):
         self.check(PLANS)
+
+    def test_promise_8_least_ways(self):
+        self.check(LEAST_WAYS)
+
+    def test_promise_9_certificates(self):
+        self.check(CERTIFICATES)
+
+    def test_promise_9_checked_certificates(self):
+        self.check(CHECKED_CERTIFICATES)
+
+    def test_promise_12_counts_of_plans(self):
+        self.check(COUNTS_OF_PLANS)
+
+    def test_promise_12_each_plan(self):
+        self.check(EACH_PLAN)
 
 
 if __name__ == "__main__":

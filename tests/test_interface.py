@@ -2,7 +2,7 @@
 
 import unittest
 
-from canpath import bounds, gardens, trips
+from canpath import bounds, counting, gardens, trips, ways
 
 
 class Interface(unittest.TestCase):
@@ -20,6 +20,8 @@ class Interface(unittest.TestCase):
         listed = (
             (gardens, ("is_garden", "garden_error", "stretches_of")),
             (trips, ("is_trip", "way_of_trip", "is_plan", "way_of", "trips_of")),
+            (ways, ("least_way", "fewest_trips", "best_plan", "certificate", "certificate_holds")),
+            (counting, ("count_plans", "count_best", "each_plan")),
         )
         for module, names in listed:
             for name in names:
