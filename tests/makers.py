@@ -1,6 +1,7 @@
 """Gardens, trips, plans and changed values for the tests, the same in every run."""
 
 from canpath.bounds import MAX_BEDS, MAX_CAN, MAX_LITRES, MAX_PLACE
+from canpath.errors import PathError
 
 S = (0, 2, ((1, 1), (3, 2)))
 G = (0, 3, ((2, 4), (5, 1), (6, 3)))
@@ -197,3 +198,30 @@ def changed(value, others):
             yield head + (other,) + value[index:]
         for inner in changed(part, others):
             yield head + (inner,) + tail
+
+
+def some_places(dice, many, far):
+    """So many ascending places, near one another or all over the path."""
+    if not far:
+        places = [dice.throw(60) - 60]
+        while len(places) < many:
+            places.append(places[-1] + 1 + dice.throw(2))
+        return places[:many]
+    places = {-MAX_PLACE, MAX_PLACE}
+    while len(places) < many:
+        places.add(dice.throw(2 * MAX_PLACE + 1) - MAX_PLACE)
+    return sorted(places)[:many]
+
+
+def some_rows(dice, many, far=False, most=9):
+    """The rows of a load with up to so many places, each with at most so many litres."""
+    return tuple((place, dice.pick((1, most, 1 + dice.throw(most)))) for place in some_places(dice, many, far))
+
+
+def error_of(call, *values, **named):
+    """The name and the fields of the error that the call raises, or None."""
+    try:
+        call(*values, **named)
+    except (PathError, LookupError) as error:
+        return (type(error).__name__, *vars(error).values())
+    return None

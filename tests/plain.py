@@ -1,6 +1,8 @@
 """The definitions of the document once more, written down slowly, to compare with."""
 
-from canpath.bounds import MAX_BEDS, MAX_CAN, MAX_LITRES, MAX_PLACE
+import re
+
+from canpath.bounds import LIMIT, MAX_BEDS, MAX_CAN, MAX_LITRES, MAX_PLACE, MAX_ROWS
 
 
 def numbers_only(values):
@@ -180,3 +182,63 @@ def all_plans(garden):
             trips = [tuple((place, group.count(place)) for place in sorted(set(group))) for group in groups]
             found.add(tuple((trip, trips.count(trip)) for trip in sorted(set(trips))))
     return sorted(found)
+
+
+def are_rows(value):
+    """Whether the value is the rows of a load."""
+    if type(value) is not tuple or len(value) > MAX_ROWS:
+        return False
+    if not all(is_pair(row) and numbers_only(row) for row in value):
+        return False
+    places = [place for place, _ in value]
+    return (places == sorted(set(places)) and all(abs(place) <= MAX_PLACE for place in places)
+            and all(1 <= litres <= LIMIT for _, litres in value))
+
+
+def grouped(number):
+    """The digits of the number, with a comma before each three from the end."""
+    digits, groups = str(abs(number)), []
+    while digits:
+        digits, group = digits[:-3], digits[-3:]
+        groups.insert(0, group)
+    return ("-" if number < 0 else "") + ",".join(groups)
+
+
+def right_aligned(text):
+    return " " * (10 - len(text)) + text
+
+
+def load_text(rows):
+    return "\n".join(right_aligned(grouped(place)) + ":" + right_aligned(grouped(litres)) for place, litres in rows)
+
+
+NUMBER = re.compile(r"(?:0|-?[1-9][0-9]*)\Z", re.ASCII)
+
+
+def written(word):
+    """The number that is written as the word, or None."""
+    return int(word) if NUMBER.match(word) else None
+
+
+def text_error(value):
+    """None for the text of a garden, otherwise the index that BadText has (as a tuple of one)."""
+    if type(value) is not str:
+        return (None,)
+    words = value.split(" ")
+    for index, word in enumerate(words[:4]):
+        if index == 3 or not is_word_at(index, word):
+            return (index,)
+    return None if len(words) == 3 else (len(words),)
+
+
+def is_word_at(index, word):
+    if index == 0:
+        return written(word) is not None and abs(written(word)) <= MAX_PLACE
+    if index == 1:
+        return written(word) is not None and 1 <= written(word) <= MAX_CAN
+    if word == "none":
+        return True
+    pairs = [part.split(":") for part in word.split(",")]
+    if any(len(pair) != 2 for pair in pairs):
+        return False
+    return garden_error((0, 1, tuple((written(one), written(other)) for one, other in pairs))) is None

@@ -1,6 +1,10 @@
 """The examples of the document, as they are printed there."""
 
+import doctest
 import unittest
+from pathlib import Path
+
+from canpath.errors import PathError
 
 GARDENS = """
 >>> from canpath.gardens import garden_error, is_garden
@@ -67,14 +71,73 @@ EACH_PLAN = """
 [((((3, 1),), 2),), ((((3, 2),), 1),)]
 """
 
+LOADS = """
+>>> from canpath.values import Load
+>>> load = Load(((1, 1), (3, 2)))
+>>> [load.rows, load.total, len(load)]
+[((1, 1), (3, 2)), 3, 2]
+"""
+
+SUMS_OF_LOADS = """
+>>> from canpath.values import Load
+>>> one = Load(((1, 1), (3, 2)))
+>>> other = Load(((3, 2),))
+>>> [one[3], one[2], (one + other).rows, (one - other).rows, other in one, one in other]
+[2, 0, ((1, 1), (3, 4)), ((1, 1),), True, False]
+"""
+
+TEXTS_OF_LOADS = """
+>>> from canpath.values import Load
+>>> load = Load(((-4, 9), (12000, 5)))
+>>> [str(load), load == Load(((-4, 9), (12000, 5))), load == ((-4, 9), (12000, 5))]
+['        -4:         9\\n    12,000:         5', True, False]
+"""
+
+WALKERS = """
+>>> from canpath.values import Walker
+>>> S = (0, 2, ((1, 1), (3, 2)))
+>>> walker = Walker(S)
+>>> [walker(((3, 2),)), walker.left.rows, walker.way, walker.trips, walker(((1, 1), (3, 1)))]
+raises TooWet(3)
+"""
+
+BOUNDS = """
+>>> from canpath.limits import Bound
+>>> made = Bound(9)
+>>> [made.most, made.room(8)]
+[9, 1]
+"""
+
+TEXTS = """
+>>> from canpath.texts import garden_text
+>>> S = (0, 2, ((1, 1), (3, 2)))
+>>> [garden_text(S), garden_text((-7, 1, ()))]
+['0 2 1:1,3:2', '-7 1 none']
+"""
+
+READ_TEXTS = """
+>>> from canpath.texts import parse_garden
+>>> parse_garden('0 2 3:2,1:1')
+raises BadText(2)
+"""
+
+
+def told_by(expression, names):
+    """Return the repr of the expression, or the error that it raises."""
+    try:
+        return repr(eval(expression, names))
+    except (PathError, LookupError) as error:
+        fields = ", ".join(repr(value) for value in vars(error).values())
+        return f"raises {type(error).__name__}({fields})"
+
 
 def run_session(text):
-    """Return the repr of the last expression of a session, and what is printed for it."""
+    """Return what the last expression of a session tells, and what is printed for it."""
     *rows, printed = text.strip().split("\n")
     names = {}
     for row in rows[:-1]:
         exec(row.removeprefix(">>> "), names)
-    return repr(eval(rows[-1].removeprefix(">>> "), names)), printed
+    return told_by(rows[-1].removeprefix(">>> "), names), printed
 
 
 class Examples(unittest.TestCase):
@@ -108,6 +171,33 @@ class Examples(unittest.TestCase):
 
     def test_promise_12_each_plan(self):
         self.check(EACH_PLAN)
+
+    def test_promise_13_loads(self):
+        self.check(LOADS)
+
+    def test_promise_13_sums_of_loads(self):
+        self.check(SUMS_OF_LOADS)
+
+    def test_promise_13_texts_of_loads(self):
+        self.check(TEXTS_OF_LOADS)
+
+    def test_promise_13_walkers(self):
+        self.check(WALKERS)
+
+    def test_promise_17_bounds(self):
+        self.check(BOUNDS)
+
+    def test_promise_18_texts(self):
+        self.check(TEXTS)
+
+    def test_promise_18_read_texts(self):
+        self.check(READ_TEXTS)
+
+    def test_sessions_of_the_readme(self):
+        readme = Path(__file__).resolve().parent.parent / "README.md"
+        told = doctest.testfile(str(readme), module_relative=False)
+        self.assertEqual(told.failed, 0)
+        self.assertGreater(told.attempted, 0)
 
 
 if __name__ == "__main__":

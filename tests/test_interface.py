@@ -2,7 +2,8 @@
 
 import unittest
 
-from canpath import bounds, counting, gardens, trips, ways
+from canpath import bounds, counting, gardens, limits, texts, trips, values, ways
+from tests.makers import S
 
 
 class Interface(unittest.TestCase):
@@ -22,11 +23,36 @@ class Interface(unittest.TestCase):
             (trips, ("is_trip", "way_of_trip", "is_plan", "way_of", "trips_of")),
             (ways, ("least_way", "fewest_trips", "best_plan", "certificate", "certificate_holds")),
             (counting, ("count_plans", "count_best", "each_plan")),
+            (values, ("Load", "Walker")),
+            (limits, ("Bound",)),
+            (texts, ("garden_text", "parse_garden")),
         )
         for module, names in listed:
             for name in names:
                 with self.subTest(name=name):
                     self.assertEqual(getattr(module, name).__module__, module.__name__)
+
+    def test_methods_are_defined_in_their_classes(self):
+        listed = (
+            (values.Load, ("__getitem__", "__add__", "__sub__", "__contains__", "__len__", "__str__", "__eq__")),
+            (values.Walker, ("__call__",)),
+            (limits.Bound, ("room",)),
+        )
+        for made, names in listed:
+            for name in names:
+                with self.subTest(made=made.__name__, name=name):
+                    self.assertIn(name, vars(made))
+
+    def test_attributes_are_set_on_each_object(self):
+        listed = (
+            (values.Load(((1, 1),)), ("rows", "total")),
+            (values.Walker(S), ("left", "way", "trips")),
+            (limits.Bound(9), ("most",)),
+        )
+        for made, names in listed:
+            for name in names:
+                with self.subTest(made=made.__class__.__name__, name=name):
+                    self.assertTrue(hasattr(made, name))
 
 
 if __name__ == "__main__":
