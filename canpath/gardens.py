@@ -44,6 +44,19 @@ def litres_wanted(garden):
     return sum([litres for place, litres in garden[2]])
 
 
+def litres_at(garden, place):
+    """Return the litres that are wanted at the place, 0 if there is no bed."""
+    return sum([litres for spot, litres in garden[2] if spot == place])
+
+
+def wanting(garden, place, litres):
+    """Return the garden in which so many litres are wanted at the place; for 0 there is no bed."""
+    tap, can, beds = garden
+    others = [bed for bed in beds if bed[0] != place]
+    bed_there = [] if litres == 0 else [(place, litres)]
+    return (tap, can, tuple(sorted(others + bed_there)))
+
+
 def stretches_of(garden):
     """Return (low, high, litres beyond) for each stretch, from left to right."""
     marks = marks_of(garden)

@@ -1,6 +1,6 @@
 """Gardens, trips, plans and changed values for the tests, the same in every run."""
 
-from canpath.bounds import MAX_BEDS, MAX_CAN, MAX_LITRES, MAX_PLACE
+from canpath.bounds import LIMIT, MAX_BEDS, MAX_CAN, MAX_LITRES, MAX_PLACE
 from canpath.errors import PathError
 
 S = (0, 2, ((1, 1), (3, 2)))
@@ -225,3 +225,51 @@ def error_of(call, *values, **named):
     except (PathError, LookupError) as error:
         return (type(error).__name__, *vars(error).values())
     return None
+
+
+def places_near(garden):
+    """Places at, beside and between the beds, at and beside the tap, and at both ends of the path."""
+    marks = sorted({garden[0], *dict(garden[2])})
+    places = {place + by for place in marks for by in (-1, 0, 1)}
+    places |= {(low + high) // 2 for low, high in zip(marks, marks[1:])} | {-MAX_PLACE, MAX_PLACE}
+    return [place for place in sorted(places) if abs(place) <= MAX_PLACE]
+
+
+def some_edit(dice, garden):
+    """An edit that can mostly be done, of all kinds, also with litres of 0."""
+    tap, can, beds = garden
+    near = [place for place, _ in beds] + [tap, tap + 1, tap - 1, dice.throw(60) - 30]
+    kind = dice.throw(6)
+    if kind == 0:
+        return ("move", dice.pick(near + [-MAX_PLACE, MAX_PLACE]))
+    if kind == 1:
+        return ("fill", dice.pick((1, 2, 3, 5, can, MAX_CAN, 1 + dice.throw(50))))
+    return ("want", dice.pick(near), dice.pick((0, 0, 1, 2, can, can + 1, 1 + dice.throw(99), MAX_LITRES)))
+
+
+def some_wrong_edit(dice):
+    """An edit with values of all kinds, of which one or two are wrong in most cases."""
+    values = STRANGE + NUMBERS
+    name = dice.pick(("want", "want", "move", "fill"))
+    if name == "want":
+        return (name, dice.pick((*values, 3, 3, 3)), dice.pick((*values, 1, 1)))
+    return (name, dice.pick(values))
+
+
+def do_edit(plot, edit):
+    """Call the method of the edit's name."""
+    return getattr(plot, edit[0])(*edit[1:])
+
+
+def asked_at(plot, version):
+    """The answers of the plot at one version."""
+    numbers = (0, plot.way, max(0, plot.way - 1), LIMIT)
+    return (plot.state(version=version), list(plot.walk(version=version)),
+            [plot.certificate(number, version=version) for number in (0, LIMIT)],
+            version is None and [plot.certificate(number) for number in numbers])
+
+
+def shown(plot):
+    """All that a plot tells, now and at each version."""
+    told = [plot.garden, plot.way, plot.trips, len(plot), str(plot), plot.edits()]
+    return told + [asked_at(plot, version) for version in (None, *range(len(plot) + 1))]

@@ -242,3 +242,65 @@ def is_word_at(index, word):
     if any(len(pair) != 2 for pair in pairs):
         return False
     return garden_error((0, 1, tuple((written(one), written(other)) for one, other in pairs))) is None
+
+
+def grown(garden, place, more):
+    """The garden that wants so many litres more at the place, perhaps beyond the limits."""
+    tap, can, beds = garden
+    wanted = dict(beds)
+    wanted[place] = wanted.get(place, 0) + more
+    return (tap, can, tuple(sorted(wanted.items())))
+
+
+def after(garden, edit):
+    """The garden after an edit that can be done."""
+    tap, can, beds = garden
+    name, *values = edit
+    if name == "move":
+        return (values[0], can, beds)
+    if name == "fill":
+        return (tap, values[0], beds)
+    wanted = dict(beds)
+    wanted.pop(values[0], None)
+    if values[1] != 0:
+        wanted[values[0]] = values[1]
+    return (tap, can, tuple(sorted(wanted.items())))
+
+
+def is_within(value, low, high):
+    return type(value) is int and low <= value <= high
+
+
+def edit_error(garden, many, edit, most=None):
+    """The name and the fields of the error of an edit while so many stand, or None."""
+    name, *values = edit
+    if many >= 60:
+        return ("TooManyEdits",)
+    if name in ("want", "move") and not is_within(values[0], -MAX_PLACE, MAX_PLACE):
+        return ("BadPlace", values[0])
+    if name == "want" and not is_within(values[1], 0, MAX_LITRES):
+        return ("BadLitres", values[1])
+    if name == "want" and values[1] > 0 and values[0] not in dict(garden[2]) and len(garden[2]) == MAX_BEDS:
+        return ("TooManyBeds",)
+    if name == "fill" and not is_within(values[0], 1, MAX_CAN):
+        return ("BadCan", values[0])
+    if most is not None and least_way(after(garden, edit)) > most:
+        return ("TooLong", least_way(after(garden, edit)))
+    return None
+
+
+def is_edit(value):
+    return (type(value) is tuple and len(value) > 0 and type(value[0]) is str
+            and (value[0], len(value)) in (("want", 3), ("move", 2), ("fill", 2)))
+
+
+def plot_text(garden, many):
+    """What str tells of a plot with so many edits."""
+    litres = sum(wanted for _, wanted in garden[2])
+    way, trips = least_way(garden), fewest_trips(garden)
+    return f"{len(garden[2])} beds, {litres} litres, way {way}, {trips} trips, {many} edits"
+
+
+def walked(garden):
+    """The stretches with how often each is walked at least."""
+    return [(low, high, litres, -(-litres // garden[1])) for low, high, litres in stretches_of(garden)]

@@ -121,6 +121,137 @@ READ_TEXTS = """
 raises BadText(2)
 """
 
+EXTRA_WAYS = """
+>>> from canpath.more import extra_way
+>>> S = (0, 2, ((1, 1), (3, 2)))
+>>> [extra_way(S, 1), extra_way(S, 2), extra_way(S, 3), extra_way(S, 5), extra_way(S, 0), extra_way(S, -1)]
+[0, 2, 4, 8, 0, 2]
+"""
+
+FREE_LITRES = """
+>>> from canpath.more import free_litres
+>>> S = (0, 2, ((1, 1), (3, 2)))
+>>> [free_litres(S, 1), free_litres(S, 3), free_litres(S, 5), free_litres(S, 0)]
+[1, 0, 0, None]
+"""
+
+LEAST_CANS = """
+>>> from canpath.more import least_can
+>>> S = (0, 2, ((1, 1), (3, 2)))
+>>> [least_can(S, 8), least_can(S, 7), least_can(S, 5)]
+[2, 3, None]
+"""
+
+TAPS = """
+>>> from canpath.taps import best_taps, better_tap, way_at
+>>> S = (0, 2, ((1, 1), (3, 2)))
+>>> [way_at(S, 1), way_at(S, 3), way_at(S, -1), best_taps(S), better_tap((2, 2, ((1, 1), (3, 2))))]
+[4, 4, 12, (1, 3), None]
+"""
+
+PLOTS = """
+>>> from canpath.plots import Plot
+>>> S = (0, 2, ((1, 1), (3, 2)))
+>>> plot = Plot(S)
+>>> [plot.garden == S, plot.way, plot.trips, len(plot)]
+[True, 8, 2, 0]
+"""
+
+ATTRIBUTES_OF_PLOTS = """
+>>> from canpath.plots import Plot
+>>> [Plot.MOST_EDITS, Plot((7, 1, ())).way]
+[60, 0]
+"""
+
+EDITS = """
+>>> from canpath.plots import Plot
+>>> S = (0, 2, ((1, 1), (3, 2)))
+>>> plot = Plot(S)
+>>> [plot.want(2, 5), plot.garden, plot.want(1, 0), plot.move(3), plot.fill(9), plot.garden, plot.way]
+[1, (0, 2, ((1, 1), (2, 5), (3, 2))), 2, 3, 4, (3, 9, ((2, 5), (3, 2))), 2]
+"""
+
+UNDO = """
+>>> from canpath.plots import Plot
+>>> S = (0, 2, ((1, 1), (3, 2)))
+>>> plot = Plot(S)
+>>> [plot.fill(3), plot.way, plot.undo(), plot.way]
+[1, 6, 0, 8]
+"""
+
+ATTEMPTS = """
+>>> from canpath.plots import Plot
+>>> S = (0, 2, ((1, 1), (3, 2)))
+>>> plot = Plot(S)
+>>> plot.attempt([('move', 9), ('want', 1, -1)])
+raises Rejected(1)
+"""
+
+STATES = """
+>>> from canpath.plots import Plot
+>>> plot = Plot((0, 1, ()))
+>>> [plot.move(8), plot.state(), plot.state(version=0)]
+[1, (8, 1, ()), (0, 1, ())]
+"""
+
+CERTIFICATES_OF_PLOTS = """
+>>> from canpath.plots import Plot
+>>> S = (0, 2, ((1, 1), (3, 2)))
+>>> Plot(S).certificate(7)
+('counts', (2, 1))
+"""
+
+WALKS = """
+>>> from canpath.plots import Plot
+>>> G = (0, 3, ((2, 4), (5, 1), (6, 3)))
+>>> list(Plot(G).walk())
+[(0, 2, 8, 3), (2, 5, 4, 2), (5, 6, 3, 1)]
+"""
+
+EDITS_THAT_STAND = """
+>>> from canpath.plots import Plot
+>>> plot = Plot((0, 1, ()))
+>>> [plot.want(2, 8), plot.edits()]
+[1, (('want', 2, 8),)]
+"""
+
+READ_PLOTS = """
+>>> from canpath.plots import Plot
+>>> Plot.read('0 2 1:1,3:2').garden
+(0, 2, ((1, 1), (3, 2)))
+"""
+
+TEXTS_OF_PLOTS = """
+>>> from canpath.plots import Plot
+>>> S = (0, 2, ((1, 1), (3, 2)))
+>>> [str(Plot(S)), Plot(S) == Plot((0, 3, S[2]))]
+['2 beds, 3 litres, way 8, 2 trips, 0 edits', False]
+"""
+
+BOUNDED_PLOTS = """
+>>> from canpath.plots import BoundedPlot
+>>> S = (0, 2, ((1, 1), (3, 2)))
+>>> plot = BoundedPlot(S, 10)
+>>> [plot.room(plot.way), plot.fill(3), plot.way, plot.move(-1), plot.want(9, 1)]
+raises TooLong(24)
+"""
+
+SHELLS = """
+>>> from canpath.plots import Plot
+>>> from canpath.shells import Shell
+>>> Shell(Plot((-7, 1, ()))).execute('garden')
+'-7 1 none'
+"""
+
+COMMANDS = """
+>>> from canpath.plots import Plot
+>>> from canpath.shells import Shell
+>>> S = (0, 2, ((1, 1), (3, 2)))
+>>> shell = Shell(Plot(S))
+>>> [shell.execute('way'), shell.execute('taps'), shell.execute('free 1'), shell.execute('free 0'), shell.execute('move -1'), shell.execute('way'), shell.execute('move')]
+['8', '1 3', '1', 'any', 'ok 1', '12', 'unknown command']
+"""
+
 
 def told_by(expression, names):
     """Return the repr of the expression, or the error that it raises."""
@@ -192,6 +323,60 @@ class Examples(unittest.TestCase):
 
     def test_promise_18_read_texts(self):
         self.check(READ_TEXTS)
+
+    def test_promise_10_extra_ways(self):
+        self.check(EXTRA_WAYS)
+
+    def test_promise_10_free_litres(self):
+        self.check(FREE_LITRES)
+
+    def test_promise_10_least_cans(self):
+        self.check(LEAST_CANS)
+
+    def test_promise_11_taps(self):
+        self.check(TAPS)
+
+    def test_promise_14_plots(self):
+        self.check(PLOTS)
+
+    def test_promise_14_attributes_of_plots(self):
+        self.check(ATTRIBUTES_OF_PLOTS)
+
+    def test_promise_14_edits(self):
+        self.check(EDITS)
+
+    def test_promise_15_undo(self):
+        self.check(UNDO)
+
+    def test_promise_16_attempts(self):
+        self.check(ATTEMPTS)
+
+    def test_promise_16_states(self):
+        self.check(STATES)
+
+    def test_promise_16_certificates_of_plots(self):
+        self.check(CERTIFICATES_OF_PLOTS)
+
+    def test_promise_16_walks(self):
+        self.check(WALKS)
+
+    def test_promise_16_edits_that_stand(self):
+        self.check(EDITS_THAT_STAND)
+
+    def test_promise_16_read_plots(self):
+        self.check(READ_PLOTS)
+
+    def test_promise_16_texts_of_plots(self):
+        self.check(TEXTS_OF_PLOTS)
+
+    def test_promise_17_bounded_plots(self):
+        self.check(BOUNDED_PLOTS)
+
+    def test_promise_19_shells(self):
+        self.check(SHELLS)
+
+    def test_promise_19_commands(self):
+        self.check(COMMANDS)
 
     def test_sessions_of_the_readme(self):
         readme = Path(__file__).resolve().parent.parent / "README.md"

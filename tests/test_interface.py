@@ -2,7 +2,7 @@
 
 import unittest
 
-from canpath import bounds, counting, gardens, limits, texts, trips, values, ways
+from canpath import bounds, counting, gardens, limits, more, plots, shells, taps, texts, trips, values, ways
 from tests.makers import S
 
 
@@ -26,6 +26,10 @@ class Interface(unittest.TestCase):
             (values, ("Load", "Walker")),
             (limits, ("Bound",)),
             (texts, ("garden_text", "parse_garden")),
+            (more, ("extra_way", "free_litres", "least_can")),
+            (taps, ("way_at", "best_taps", "better_tap")),
+            (plots, ("Plot", "BoundedPlot")),
+            (shells, ("Shell",)),
         )
         for module, names in listed:
             for name in names:
@@ -37,6 +41,9 @@ class Interface(unittest.TestCase):
             (values.Load, ("__getitem__", "__add__", "__sub__", "__contains__", "__len__", "__str__", "__eq__")),
             (values.Walker, ("__call__",)),
             (limits.Bound, ("room",)),
+            (plots.Plot, ("MOST_EDITS", "want", "move", "fill", "undo", "attempt", "state", "certificate", "walk",
+                          "edits", "read", "__len__", "__str__", "__eq__")),
+            (shells.Shell, ("execute",)),
         )
         for made, names in listed:
             for name in names:
@@ -48,6 +55,8 @@ class Interface(unittest.TestCase):
             (values.Load(((1, 1),)), ("rows", "total")),
             (values.Walker(S), ("left", "way", "trips")),
             (limits.Bound(9), ("most",)),
+            (plots.Plot(S), ("garden", "way", "trips")),
+            (plots.BoundedPlot(S, 9), ("garden", "way", "trips", "most")),
         )
         for made, names in listed:
             for name in names:

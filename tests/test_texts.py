@@ -91,8 +91,8 @@ class WrongTexts(TextCase):
             self.check_refused(value, index)
 
     def test_spaces(self):
-        for value, index in ((" 0 2 none", 0), ("0  2 none", 1), ("0 2  none", 2), ("0 2 none ", 3), ("0 2 1:1, 3:2", 2),
-                             ("0 2 1: 1", 2), ("- 1 2 none", 0), ("  0 2 none", 0)):
+        for value, index in ((" 0 2 none", 0), ("0  2 none", 1), ("0 2  none", 2), ("0 2 none ", 3),
+                             ("0 2 1:1, 3:2", 2), ("0 2 1: 1", 2), ("- 1 2 none", 0), ("  0 2 none", 0)):
             self.check_refused(value, index)
         for space in ("\n", "\t", "\r", "\x0b", "\x0c", "\xa0", "\u2003", "\n ", " \n"):
             for at in range(len("0 2 1:1,3:2") + 1):
